@@ -1,0 +1,1 @@
+"""Fencemask: guests' code kept within a room by masks."""
