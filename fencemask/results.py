@@ -1,0 +1,40 @@
+"""What instructions make: which box, and of which values what value."""
+
+from fencemask.bits import power_of_two, rest
+
+# All other sorts make the box that they name first something.
+MAKING_NONE = ("stop", "store", "jump", "jumpif", "through", "gate")
+
+
+def made_box(instruction):
+    if instruction[0] in MAKING_NONE:
+        return None
+    return instruction[1]
+
+
+def joined_value(sort, b, c):
+    if sort == "add":
+        return rest(b + c, 32)
+    if sort == "sub":
+        return rest(b - c, 32)
+    if sort == "and":
+        return b & c
+    if sort == "or":
+        return b | c
+    if sort == "xor":
+        return b ^ c
+    if sort == "less":
+        return 1 if b < c else 0
+    # What is moved by t bits is multiplied, or parted, by 2 ** t.
+    power = power_of_two(rest(c, 5))
+    if sort == "left":
+        return rest(b * power, 32)
+    return b // power
+
+
+def fit_value(plan, b):
+    return plan[1] + rest(b, plan[0])
+
+
+def aim_value(plan, b):
+    return rest(b, plan[2]) * 8 * power_of_two(plan[3])
