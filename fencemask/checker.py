@@ -3,7 +3,7 @@
 from fencemask.bits import power_of_two
 from fencemask.code import instruction_at, length_of
 from fencemask.errors import NotWithin
-from fencemask.results import made_box
+from fencemask.results import LAST_SORTS, made_box
 from fencemask.spans import aim_span, fit_span, joined_span, more_span, single, whole_span
 
 
@@ -98,7 +98,7 @@ def spans_ahead(plan, code):
         spans = spans_behind(plan, instruction, spans)
         if length_of(instruction) == 2:
             told.append(None)
-    if sort not in ("stop", "jump", "through"):
+    if sort not in LAST_SORTS:
         raise NotWithin(len(code), "end")
     return told
 

@@ -1,9 +1,12 @@
-"""What instructions make: which box, and of which values what value."""
+"""What instructions do: which box they make, of which values what value, and where no run goes on behind."""
 
 from fencemask.bits import power_of_two, rest
 
 # All other sorts make the box that they name first something.
 MAKING_NONE = ("stop", "store", "jump", "jumpif", "through", "gate")
+
+# Behind these no run goes on, so that one of them ends a guest's block, and the code.
+LAST_SORTS = ("stop", "jump", "through")
 
 
 def made_box(instruction):
