@@ -57,7 +57,8 @@ def take_row(blocks, row, line):
         blocks[due - 1].append(instruction)
 
 
-def read_guest(text):
+def read_blocks(text):
+    """The blocks that a text tells, be they a guest or not."""
     blocks = []
     rows = text.split("\n")
     for line, row in enumerate(rows, start=1):
@@ -66,6 +67,10 @@ def read_guest(text):
             take_row(blocks, bare, line)
     if len(blocks) == 0:
         raise NoText(len(rows) + 1)
-    guest = tuple([tuple(block) for block in blocks])
+    return tuple([tuple(block) for block in blocks])
+
+
+def read_guest(text):
+    guest = read_blocks(text)
     check_guest(guest, 16)
     return guest

@@ -41,3 +41,18 @@ def fit_value(plan, b):
 
 def aim_value(plan, b):
     return rest(b, plan[2]) * 8 * power_of_two(plan[3])
+
+
+def made_value(plan, instruction, boxes):
+    """What an instruction that makes a box something, but no load, makes of the boxes' values."""
+    sort = instruction[0]
+    if sort == "put":
+        return instruction[2]
+    b = boxes[instruction[2]]
+    if sort == "more":
+        return rest(b + instruction[3], 32)
+    if sort == "fit":
+        return fit_value(plan, b)
+    if sort == "aim":
+        return aim_value(plan, b)
+    return joined_value(sort, b, boxes[instruction[3]])

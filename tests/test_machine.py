@@ -2,16 +2,12 @@ import copy
 import unittest
 
 from fencemask.machine import in_room, run
-from helper import THREE_BOXES, TOP, W, Numbers, code_of, filled, joined
+from helper import THREE_BOXES, TOP, W, Numbers, code_of, filled, joined, with_box
 
 # The room is the 16 places from 32 on; the code has 4 blocks of 2 bundles.
 PLAN = (4, 32, 2, 1, 3)
 BOXES = (10, 11, 12, 13, 14, 15, 16, 17)
 NO_WORDS = (1, 19 * 2 ** 27, TOP, 2 ** 27 + 1)
-
-
-def with_box(boxes, at, value):
-    return boxes[:at] + (value,) + boxes[at + 1:]
 
 
 def one_turn(instruction, boxes, memory=None, plan=PLAN):

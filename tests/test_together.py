@@ -2,24 +2,14 @@
 
 import unittest
 
-from fencemask.checker import check, spans_ahead
-from fencemask.code import instruction_at
-from fencemask.errors import NotWithin
+from fencemask.checker import check
 from fencemask.machine import run
-from helper import THREE_BOXES, TOP, W, Numbers, code_of
+from helper import THREE_BOXES, TOP, W, Numbers, Within, code_of, let_by
 
 PLANS = (
     (4, 32, 0, 0, 2), (4, 32, 1, 1, 3), (0, 5, 1, 0, 1), (20, W - 2 ** 20, 2, 0, 16), (3, 0, 0, 2, 1),
     (20, 2 ** 20, 1, 1, 4), (6, 2 ** 31, 2, 1, 2), (0, TOP, 0, 1, 0), (1, W - 2, 1, 0, 1), (10, 0, 3, 0, 2),
 )
-
-
-def let_by(plan, code):
-    try:
-        check(plan, code)
-    except NotWithin:
-        return False
-    return True
 
 
 def count_of(plan):
@@ -63,58 +53,10 @@ def some_code(plan, numbers):
 
 
 def some_stand(plan, place, numbers):
-    memory = {plan[1] + numbers.below(2 ** plan[0]): numbers.value() for step in range(6)}
-    for beyond in (plan[1] - 1, plan[1] + 2 ** plan[0], numbers.value()):
-        if 0 <= beyond < W:
-            memory[beyond] = numbers.value()
-    return (place, numbers.values(8), memory)
+    return (place, numbers.values(8), numbers.memory(plan))
 
 
-def some_replies(plan, numbers):
-    replies = []
-    for step in range(numbers.below(6)):
-        writes = {plan[1] + numbers.below(2 ** plan[0]): numbers.value() for place in range(numbers.below(4))}
-        replies.append((numbers.values(7), writes))
-    return replies
-
-
-def beyond_room(plan, memory):
-    return {place: value for place, value in memory.items() if not plan[1] <= place < plan[1] + 2 ** plan[0]}
-
-
-class Together(unittest.TestCase):
-    def keeps_within(self, plan, stand, told):
-        end, behind, rows, turns = told
-        self.assertIn(end[0], ("stopped", "asks", "spent"))
-        self.assertEqual(behind[1][7], stand[1][7])
-        self.assertEqual(beyond_room(plan, behind[2]), beyond_room(plan, stand[2]))
-        for n, boxes, memory in rows:
-            self.assertTrue(0 <= n < plan[4])
-            self.assertEqual(boxes[7], stand[1][7])
-            self.assertEqual(beyond_room(plan, memory), beyond_room(plan, stand[2]))
-
-    def spans_hold(self, spans, stand):
-        place, boxes, memory = stand
-        self.assertIsNotNone(spans[place], place)
-        for value, (lo, hi, z) in zip(boxes, spans[place]):
-            self.assertTrue(lo <= value <= hi and value % 2 ** z == 0, (place, boxes, spans[place]))
-
-    def walk(self, plan, code, stand, replies, most):
-        """The run turn by turn, with the spans asked for at each place; the sorts that were done."""
-        spans = spans_ahead(plan, code)
-        whole = run(plan, code, stand, replies, most)
-        self.keeps_within(plan, stand, whole)
-        done, rows = [], []
-        for turn in range(whole[3]):
-            self.spans_hold(spans, stand)
-            done.append(instruction_at(code, stand[0])[0])
-            end, stand, kept, turns = run(plan, code, stand, replies[len(rows):], 1)
-            self.assertEqual(turns, 1)
-            rows += kept
-        self.spans_hold(spans, stand)
-        self.assertEqual((end if done else whole[0], stand, rows), whole[:3])
-        return done
-
+class Together(Within):
     def test_what_is_let_by_keeps_within(self):
         numbers = Numbers(21)
         done = {}
@@ -125,7 +67,7 @@ class Together(unittest.TestCase):
             for place in range(0, len(code), 8):
                 for again in range(2):
                     stand = some_stand(plan, place, numbers)
-                    for sort in self.walk(plan, code, stand, some_replies(plan, numbers), 40):
+                    for sort in self.walk(plan, code, stand, numbers.replies(plan), 40):
                         done[sort] = done.get(sort, 0) + 1
         # All sorts were done, or this would show little.
         self.assertEqual(len(done), 19, done)
@@ -143,20 +85,9 @@ class Together(unittest.TestCase):
 
     def test_changed_bits_are_refused_or_keep_within(self):
         numbers = Numbers(23)
-        by, refused = 0, 0
         for plan in ((4, 32, 1, 0, 2), (20, W - 2 ** 20, 0, 1, 16), (6, 64, 1, 1, 1), (0, 5, 1, 0, 3)):
-            code = some_code(plan, numbers)
-            for bit in range(32 * len(code)):
-                changed = list(code)
-                changed[bit // 32] ^= 2 ** (bit % 32)
-                if not let_by(plan, changed):
-                    refused += 1
-                    continue
-                by += 1
-                for place in range(0, len(code), 8):
-                    self.walk(plan, changed, some_stand(plan, place, numbers), some_replies(plan, numbers), 12)
-        self.assertGreater(by, 200)
-        self.assertGreater(refused, 200)
+            by, refused = self.changed_bits_keep_within(plan, some_code(plan, numbers), numbers, 12)
+            self.assertGreater(min(by, refused), 50)
 
     def test_code_that_is_run_through_all_its_blocks(self):
         plan = (4, 32, 2, 0, 1)
